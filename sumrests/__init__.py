@@ -1,0 +1,1 @@
+"""Sumrests: sums of numbers, and what they leave."""

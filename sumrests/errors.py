@@ -1,0 +1,13 @@
+"""The refusals of the program."""
+
+
+class RestError(ValueError):
+    pass
+
+
+class BadRound(RestError):
+    pass
+
+
+class BadText(RestError):
+    pass
