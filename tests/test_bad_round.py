@@ -1,8 +1,10 @@
 import unittest
 
-from samples import BOUND, NO_ROUNDS, Untouchable, all_lists
+from samples import BOUND, NO_ROUNDS, Untouchable, all_lists, in_good_time
+from sumrests.choices import barren, choose, groups, table
 from sumrests.errors import BadRound
 from sumrests.sets import rests, shifted, stays, step, sums
+from sumrests.stretches import stretch
 
 CALLS = {
     "rests": lambda xs, n: rests(xs, n),
@@ -13,6 +15,15 @@ CALLS = {
     "shifted by nought": lambda xs, n: shifted(xs, 0, n),
     "stays": lambda xs, n: stays(xs, n),
     "step": lambda xs, n: step(xs, n),
+    "stretch": lambda xs, n: stretch(xs, n),
+    "choose": lambda xs, n: choose(xs, 2, 1, n),
+    "choose no place": lambda xs, n: choose(xs, 0, 0, n),
+    "choose more places than there are": lambda xs, n: choose(xs, 90, 0, n),
+    "choose fewer than no places": lambda xs, n: choose(xs, -1, 0, n),
+    "choose for a number at the bounds": lambda xs, n: choose(xs, 1, -BOUND, n),
+    "table": lambda xs, n: table(xs, n),
+    "barren": lambda xs, n: barren(n),
+    "groups": lambda xs, n: groups(xs, n),
 }
 
 
@@ -42,7 +53,7 @@ class BadRounds(unittest.TestCase):
         for name, call in CALLS.items():
             for n in (1, 24):
                 for numbers in all_lists(n):
-                    with self.subTest(name=name, n=n, numbers=numbers):
+                    with self.subTest(name=name, n=n, numbers=numbers), in_good_time(20):
                         call(numbers, n)
 
 

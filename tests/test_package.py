@@ -4,7 +4,7 @@ import os
 import unittest
 
 import sumrests
-from sumrests import sets
+from sumrests import choices, notes, sets, stretches
 
 FOLDER = os.path.dirname(sumrests.__file__)
 
@@ -19,16 +19,27 @@ def text_of(name):
 
 
 class Package(unittest.TestCase):
-    def test_arguments_as_they_stand(self):
+    def test_names_and_arguments_as_they_stand(self):
         wanted = {
-            "rests": ["numbers", "n"],
-            "sums": ["one", "other", "n"],
-            "shifted": ["numbers", "by", "n"],
-            "stays": ["numbers", "n"],
-            "step": ["numbers", "n"],
+            sets: {
+                "rests": ["numbers", "n"],
+                "sums": ["one", "other", "n"],
+                "shifted": ["numbers", "by", "n"],
+                "stays": ["numbers", "n"],
+                "step": ["numbers", "n"],
+            },
+            stretches: {"stretch": ["numbers", "n"]},
+            choices: {
+                "choose": ["numbers", "count", "wanted", "n"],
+                "table": ["numbers", "n"],
+                "barren": ["n"],
+                "groups": ["numbers", "n"],
+            },
+            notes: {"shown": ["numbers", "n"], "read": ["text"]},
         }
-        for name, arguments in wanted.items():
-            self.assertEqual(list(inspect.signature(getattr(sets, name)).parameters), arguments)
+        for module, functions in wanted.items():
+            for name, arguments in functions.items():
+                self.assertEqual(list(inspect.signature(getattr(module, name)).parameters), arguments, name)
 
     def test_only_its_own_modules_are_drawn_in(self):
         # Without another module and without open there is no clock, chance or file.

@@ -1,7 +1,6 @@
 import unittest
 
-from samples import (BOUND, ROUNDS, all_lists, divisors, same_set_lists, scattered, set_of, stays_of, step_of,
-                     subsets)
+from samples import BOUND, ROUNDS, all_lists, divisors, same_set_lists, scattered, stays_of, step_of, subsets
 from sumrests.sets import rests, shifted, stays, step
 
 
